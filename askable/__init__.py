@@ -1,0 +1,1 @@
+"""Askable: which tables can be asked from databases, in twelve query languages."""

@@ -1,0 +1,1 @@
+"""Query languages, rules, queries, answers and closed trees."""
