@@ -37,7 +37,7 @@ BARRED_ATTRIBUTES = set(
 FREE_ATTRIBUTES = set("count index title find get join lower upper split strip copy add".split())
 OF_BUILTIN_VALUES = {name for kind in (str, int, list, dict, set, bytes, tuple) for name in dir(kind)}
 OPERATORS = set("__or__ __and__ __sub__ __contains__ __getitem__".split())
-METHODS = OPERATORS | set("__init__ __eq__ __repr__ __str__ __len__ __iter__".split())
+METHODS = OPERATORS | set("__init__ __eq__ __repr__ __str__ __len__ __iter__ __call__".split())
 PIECES = {getattr(ast, name) for name in (
     "Module FunctionDef ClassDef Return Delete Assign AugAssign For While If Raise Assert ImportFrom Expr Pass Break Continue"
     " BoolOp BinOp UnaryOp IfExp Dict Set ListComp SetComp DictComp Yield YieldFrom Compare Call FormattedValue JoinedStr"
@@ -168,6 +168,15 @@ def is_plain(piece):
     if isinstance(piece, ast.UnaryOp) and isinstance(piece.op, ast.USub):
         return isinstance(piece.operand, ast.Constant)
     return isinstance(piece, ast.Constant) or isinstance(piece, ast.Tuple) and all(map(is_plain, piece.elts))
+
+
+def is_name_or_literal(piece):
+    """Whether a piece is a name, an attribute off names, or a value that is written out."""
+    if isinstance(piece, ast.Attribute):
+        return is_name_or_literal(piece.value)
+    if isinstance(piece, ast.Tuple):
+        return all(map(is_name_or_literal, piece.elts))
+    return isinstance(piece, ast.Name) or is_plain(piece)
 
 
 def read_paths(package):
@@ -445,6 +454,8 @@ def read_method(method, names, package, is_error):
         yield line, "L5", f"{name} is a property, and something else"
     if not parameters or name in ("__or__", "__and__", "__sub__", "__eq__") and parameters != ["self", "other"]:
         yield line, "L5", "other parameters than self and other"
+    if name == "__call__" and (is_error or method.args.kwonlyargs):
+        yield line, "L5", "__call__ in an error class, or with other than plain parameters"
     if method.args.kwarg and name in OPERATORS:
         yield line, "L5", "another parameter of an operator"
     returns = [part for part in ast.walk(method) if isinstance(part, ast.Return)]
@@ -628,6 +639,8 @@ def read_iteration(file, package):
         if name in package.generators or method in package.generators:
             if not is_iterated(piece, file):
                 yield piece.lineno, "L23", f"the generator {name or method} is not iterated at once"
+            if piece.keywords or not all(is_name_or_literal(part) for part in piece.args):
+                yield piece.lineno, "L23", f"something else than names and literals beside the generator {name or method}"
         if isinstance(piece, ast.For):
             yield from read_loop(piece)
         if isinstance(piece, ast.FunctionDef) and piece.name in package.generators:

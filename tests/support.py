@@ -8,12 +8,21 @@ from askable.ask.rules import Query, Rule
 from askable.base.databases import Database
 from askable.base.tables import Table
 from askable.errors import InvalidNumber
+from askable.keep.maps import maps
+from askable.wish.examples import Examples
 
 PATH = Database(("a", "b", "c"), edge=Table(2, ("a", "b"), ("b", "a"), ("b", "c"), ("c", "b")))
 POINT = Database(("a", "b"), at=Table(2, ("a", "a")))
 THERE = Database(("a", "b"), to=Table(2, ("a", "b")))
 BACK = Database(("a", "b"), to=Table(2, ("a", "b"), ("b", "a")))
 TIP = Rule(("x",), ("in", "edge", ("x", "y")), ("in", "edge", ("y", "z")), ("unlike", "z", "x"))
+ENDS = Examples(1, (PATH, (("a",), ("c",)), None))
+REST = Examples(2, (POINT, (("a", "b"), ("b", "a"), ("b", "b")), None))
+BEGIN = Examples(1, (THERE, (("a",),), ()), (BACK, (), (("a",),)))
+SPOTS = Database(("a", "b", "c"), p=Table(1, ("a",)), q=Table(1, ("b",)))
+EITHER = Examples(1, (SPOTS, (("a",), ("b",)), None))
+NOWHERE = Query(2, Rule(("x", "y"), ("out", "at", ("x", "y"))))
+TURN = ("keeper", ((0, ("a",)),), 0, {("a",): "b", ("b",): "a", ("c",): "b"})
 
 
 def nested(wrap, depth, inner):
@@ -35,6 +44,9 @@ TUPLES = [
     ("unlike", "x"), ("in", "edge", ("x", "y")), ("unlike", "x", "y"), ("unlike", "y", "x"), ("in", ["edge"]), ("fine",),
     ("broken", ("in", "edge", ("x",))), ("choose", "x", (("fine",),)), (0, {}), (0, {"x": "a"}),
     nested(lambda one: (one,), 40, ()), nested(lambda one: ("choose", "x", (one,)), 19, 1), ({},), (POINT,),
+    (0, ("a",)), ((0, ("a",)),), ((True, ("a",)),), ((0, ("a",)), (0, ("c",))), ((0, ("a", "b")),), ("keeper", (), 0, {}), TURN,
+    ("keeper", ((0, ("a",)),), 0, {}), ("query", NOWHERE, (), ()), ("keeper",), ((("a", "c"),),), (PATH, (("a",),), None),
+    (PATH, (("a",),), (("b",),)), (PATH, (), ()), ((),), ((), ()),
 ]
 LISTS = [
     [], ["a"], ["a", "b"], [["a"]], [("a",)], [("in", "edge", ("x", "y"))], ["in", "edge", ["x"]], ["fine"], [0, {}],
@@ -43,11 +55,12 @@ LISTS = [
 DICTS = [
     {}, {"a": "b"}, {"a": "a", "b": "b"}, {"a": "a", "b": "b", "c": "c"}, {"a": "b", "b": "b", "c": "c"}, {1: 2}, {"a": 1},
     {None: "a"}, {True: "a"}, {("a",): "a"}, {"A": "a"}, {"x": "a"}, {"x": "a", "y": "b"}, {"edge": Table(2)}, {"edge": "a"},
-    {"x": "x", "y": "y", "z": "z"}, {1: "a", "x": "b"}, nested(lambda one: {"a": one}, 40, {}),
+    {"x": "x", "y": "y", "z": "z"}, {1: "a", "x": "b"}, {("a",): "a", ("b",): "b", ("c",): "c"}, {("a", "c"): "b"}, {(): "a"}, nested(lambda one: {"a": one}, 40, {}),
 ]
 OBJECTS = [
     Table(0), Table(0, ()), Table(1, ("a",)), Table(2, ("a", "b")), PATH, POINT, THERE, Database(("a",)), TIP, Rule(()),
-    Rule(("x",)), Query(0), Query(1, TIP), Query(0, Rule(())), ways(TIP, PATH, ("a",)), InvalidNumber(3),
+    Rule(("x",)), Query(0), Query(1, TIP), Query(0, Rule(())), ways(TIP, PATH, ("a",)), InvalidNumber(3), NOWHERE,
+    ENDS, REST, BEGIN, Examples(0, (POINT, ((),), ())), maps(POINT, POINT, "deep one plain"), maps(1, 2, 3),
 ]
 EVERY_KIND = NUMBERS + [True, False, None] + STRINGS + TUPLES + LISTS + DICTS + OBJECTS
 

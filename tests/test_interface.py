@@ -13,6 +13,7 @@ CONSTANTS = {
     "askable.base.databases": {"MAX_VALUES": 6, "MAX_TABLES": 4},
     "askable.ask.rules": {"MAX_VARIABLES": 16, "MAX_ATOMS": 20000},
     "askable.ask.answers": {"MAX_SEARCH": 65536},
+    "askable.wish.examples": {"MAX_CASES": 4},
 }
 FUNCTIONS = {
     "askable.base.tables": {"is_name": "value", "whole_table": "values, columns"},
@@ -30,7 +31,37 @@ FUNCTIONS = {
         "row_paper": "query, database, row", "is_row_paper": "query, database, row, value",
         "size_of": "tree", "height_of": "tree", "choices_of": "tree",
     },
+    "askable.keep.maps": {
+        "maps": "first, second, language", "is_map": "first, second, language, value",
+        "map_of": "first, row, second, other, language", "images": "first, row, second, language", "symmetries": "database",
+        "is_symmetry": "database, value", "turned": "mapping", "behind": "mapping, other",
+    },
+    "askable.wish.examples": {"first_misfit": "examples, query"},
+    "askable.keep.places": {
+        "columns_of": "examples, places", "keys_of": "examples, language, places",
+        "key_rows": "examples, language, places, sign", "is_key_row": "examples, language, places, sign, value",
+        "rule_of": "examples, language, places",
+    },
+    "askable.keep.keepers": {
+        "kept_maps": "examples, language, places, target", "thrown_rows": "examples, language, places, target",
+        "keeper": "examples, language", "is_keeper": "examples, language, value", "thrown_row": "examples, value",
+        "done_behind": "examples, value, target, mapping",
+    },
+    "askable.keep.flat": {
+        "flat_rule": "database, row, language", "leads_flat": "first, row, second, other, language",
+        "flat_kinds": "database, columns, language", "joint_sets": "examples, language", "fewest_rules": "examples, language",
+    },
+    "askable.wish.papers": {
+        "fitting_paper": "examples, query", "is_fitting_paper": "examples, value", "is_askable": "examples, language",
+        "query_for": "examples, language", "paper": "examples, language", "is_paper": "examples, language, value",
+        "query_of": "examples, language, value",
+    },
+    "askable.wish.ladder": {
+        "ladder": "examples", "least_languages": "examples", "ladder_papers": "examples", "is_ladder": "examples, value",
+        "carried": "examples, language, value, other", "clashes": "examples, language",
+    },
 }
+GENERATORS = {"ways", "maps", "symmetries", "key_rows", "kept_maps"}
 METHODS = {
     ("askable.base.tables", "Table"): {
         "__init__": "self, columns, *rows", "of": "cls, columns, rows", "columns": "self", "rows": "self", "domain": "self",
@@ -54,6 +85,12 @@ METHODS = {
         "__init__": "self, columns, *rules", "of": "cls, columns, rules", "columns": "self", "rules": "self", "tables": "self",
         "language": "self", "is_in": "self, language", "__getitem__": "self, index", "without": "self, *indices",
         "__or__": "self, other", "__len__": "self", "__iter__": "self", "__eq__": "self, other", "__str__": "self",
+    },
+    ("askable.wish.examples", "Examples"): {
+        "__init__": "self, columns, *cases", "of": "cls, columns, cases", "columns": "self", "cases": "self", "shape": "self",
+        "places": "self", "with_must": "self, index, row", "with_barred": "self, index, row", "without_must": "self, index, row",
+        "without_barred": "self, index, row", "turned": "self", "only": "self, *indices", "__or__": "self, other",
+        "__call__": "self, query", "__len__": "self", "__iter__": "self", "__eq__": "self, other", "__str__": "self",
     },
 }
 
@@ -89,11 +126,11 @@ class InterfaceTest(unittest.TestCase):
             for method, parameters in methods.items():
                 self.assertEqual(parameters_of(found[method]), parameters, (name, method))
 
-    def test_only_ways_is_a_generator(self):
+    def test_generators(self):
         for module, functions in FUNCTIONS.items():
             for name in functions:
                 told = inspect.isgeneratorfunction(getattr(importlib.import_module(module), name))
-                self.assertEqual(told, name == "ways")
+                self.assertEqual(told, name in GENERATORS)
 
 
 if __name__ == "__main__":

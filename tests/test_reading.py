@@ -67,6 +67,10 @@ class Box:
     def __eq__(self, other):
         return isinstance(other, Box) and self._rows == other._rows
 
+    def __call__(self, row):
+        self._last = row
+        return row in self._rows
+
     def __str__(self):
         return f"box of {len(self._rows)} rows"
 
@@ -121,6 +125,11 @@ BROKEN_ROWS = [
     ("L5", "class One:\n    @property\n    def size(self):\n        return put([])\n\n\ndef put(xs):\n    xs.append(1)\n    return xs"),
     ("L5", "class One:\n    @property\n    def size(self, by):\n        return by"),
     ("L5", "class One:\n    @property\n    def title(self):\n        return 1"),
+    ("L5", "class One(ValueError):\n    def __call__(self, row):\n        return row"),
+    ("L4", "class One:\n    def __call__(self, *told):\n        return told"),
+    ("L5", "class One:\n    def __call__(self, *, row):\n        return row"),
+    ("L5", "class One:\n    def __contains__(self, x):\n        return told(x)\n\n\ndef told(box):\n    return box(1)"),
+    ("L23", "def one(xs):\n    return [x for x in steps(len(xs))]"), ("L23", "def one(xs):\n    return list(steps(limit=1))"),
     ("L5", "class One:\n    def __init__(self):\n        self.rows = 1"),
     ("L5", "def one(box):\n    return box.__len__()"), ("L5", "class One:\n    __slots__ = ()"),
     ("L6", "def one():\n    global LIMIT"), ("L6", "async def one():\n    pass"), ("L6", "def one(x):\n    with x:\n        pass"),

@@ -37,6 +37,16 @@ def variables_of(atom):
     return atom[1:] if atom[0] == "unlike" else atom[2]
 
 
+def sign_of(atom):
+    """The sign of an atom."""
+    return atom[:1] if atom[0] == "unlike" else atom[:2]
+
+
+def atom_over(sign, names):
+    """The atom with a sign and a tuple of names for its columns."""
+    return sign + names if sign[0] == "unlike" else (*sign, names)
+
+
 def check_rule(rule):
     """Raise an error if the rule is none."""
     if not isinstance(rule, Rule):
@@ -49,9 +59,9 @@ def check_query(query):
         raise InvalidQuery("not a query")
 
 
-def _renamed_atom(atom, mapping):
-    renamed = tuple([mapping[variable] for variable in variables_of(atom)])
-    return ("unlike", *renamed) if atom[0] == "unlike" else (atom[0], atom[1], renamed)
+def renamed_atom(atom, mapping):
+    """The atom with other names for its columns."""
+    return atom_over(sign_of(atom), tuple([mapping[variable] for variable in variables_of(atom)]))
 
 
 class Rule:
@@ -120,7 +130,7 @@ class Rule:
         if not is_renaming(mapping, self._variables):
             raise InvalidOperation("the mapping is not a dict from just the variables to different names")
         head = tuple([mapping[variable] for variable in self._head])
-        atoms = [_renamed_atom(atom, mapping) for atom in self._atoms]
+        atoms = [renamed_atom(atom, mapping) for atom in self._atoms]
         return Rule(head, *atoms)
 
     def __len__(self):

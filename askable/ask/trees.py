@@ -2,8 +2,8 @@
 
 from askable.ask.answers import check_bound, check_query_at_row, is_way, way_of
 from askable.ask.rules import check_rule, is_atom, variables_of
-from askable.ask.search import Search
-from askable.ask.truth import check_meeting, holds, rows_under_names
+from askable.ask.search import rule_search
+from askable.ask.truth import Signs, check_meeting
 from askable.base.checks import are_rows, rows_of
 from askable.base.databases import check_database
 from askable.base.tables import MAX_VALUES, is_name
@@ -36,11 +36,19 @@ def closed_tree(rule, database, barred):
     """A closed tree of the rule and the barred rows, or None if one of them is an answer."""
     _check_barred(rule, database, barred)
     check_bound(rule, database)
-    return _tree_behind(rule.head, Search(rule, database), (), _agreeing(rule.head, barred, {}))
+    return tree_of(rule, Signs(database), barred)
+
+
+def tree_of(rule, signs, barred):
+    """A closed tree of the rule in the database of the signs, or None if a barred row is an answer."""
+    return _tree_behind(rule.head, rule_search(rule, signs), (), _agreeing(rule.head, barred, {}))
 
 
 def _tree_behind(head, search, told, agreeing):
-    """A closed tree behind the choice of these values, with the barred rows that agree with it, or None."""
+    """A closed tree behind the choice of these values, told by their numbers, or None.
+
+    The barred rows that agree with the choices are told by the caller.
+    """
     if len(agreeing) == 0:
         return ("fine",)
     atom = search.broken_atom(told)
@@ -50,9 +58,9 @@ def _tree_behind(head, search, told, agreeing):
         return None
     variable = search.order[len(told)]
     trees = []
-    for value in search.choices:
+    for number, value in enumerate(search.choices):
         left = _agreeing(head, agreeing, {variable: (value,)})
-        tree = _tree_behind(head, search, told + (value,), left)
+        tree = _tree_behind(head, search, told + (number,), left)
         if tree is None:
             return None
         trees.append(tree)
@@ -66,13 +74,12 @@ def _different(trees):
 
 
 class TreeJudge:
-    """Tells which trees are closed trees of a rule in a database."""
+    """Tells which trees are closed trees of a rule in the database of some signs."""
 
-    def __init__(self, rule, database):
+    def __init__(self, rule, signs):
         self._rule = rule
-        self._atoms = {atom: True for atom in rule}
-        self._values = database.domain
-        self._rows = rows_under_names(database)
+        self._signs = signs
+        self._known_atoms = {atom: True for atom in rule}
 
     def accepts(self, tree, chosen, agreeing):
         """Whether the value is a closed tree for each choice of one of the values of each chosen variable.
@@ -90,22 +97,23 @@ class TreeJudge:
         return self._accepts_all(tree[1], tree[2], chosen, agreeing)
 
     def _is_broken(self, atom, chosen):
-        if not is_atom(atom) or atom not in self._atoms:
+        if not is_atom(atom) or atom not in self._known_atoms:
             return False
         variables = sorted(set(variables_of(atom)))
         if not all([variable in chosen for variable in variables]):
             return False
         told = rows_of([chosen[variable] for variable in variables])
-        return not any([holds(self._rows, atom, dict(zip(variables, row))) for row in told])
+        return not any([self._signs.holds(atom, dict(zip(variables, row))) for row in told])
 
     def _can_choose(self, variable, chosen):
         return variable in self._rule.variables and variable not in chosen
 
     def _accepts_all(self, variable, trees, chosen, agreeing):
-        if not isinstance(trees, tuple) or len(trees) != len(self._values):
+        choices = self._signs.choices
+        if not isinstance(trees, tuple) or len(trees) != len(choices):
             return False
         for at in _different(trees):
-            values = tuple([value for value, tree in zip(self._values, trees) if tree == trees[at]])
+            values = tuple([value for value, tree in zip(choices, trees) if tree == trees[at]])
             left = _agreeing(self._rule.head, agreeing, {variable: values})
             if not self.accepts(trees[at], {**chosen, variable: values}, left):
                 return False
@@ -115,7 +123,12 @@ class TreeJudge:
 def is_closed_tree(rule, database, barred, value):
     """Whether the value is a closed tree of the rule and the barred rows."""
     _check_barred(rule, database, barred)
-    return TreeJudge(rule, database).accepts(value, {}, _agreeing(rule.head, barred, {}))
+    return accepts_tree(rule, Signs(database), barred, value)
+
+
+def accepts_tree(rule, signs, barred, value):
+    """Whether the value is a closed tree of the rule and the barred rows, in the database of the signs."""
+    return TreeJudge(rule, signs).accepts(value, {}, _agreeing(rule.head, barred, {}))
 
 
 def row_paper(query, database, row):

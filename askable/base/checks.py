@@ -11,6 +11,11 @@ def is_row(value, columns, values):
     return isinstance(value, tuple) and len(value) == columns and all([part in values for part in value])
 
 
+def is_short_row(value, values):
+    """Whether the value is a tuple of at most three of some values."""
+    return isinstance(value, tuple) and is_row(value, min(len(value), 3), values)
+
+
 def are_rows(value, columns, values):
     """Whether the value is an ascending tuple of rows over some values, with so many columns."""
     if not isinstance(value, tuple) or not all([is_row(row, columns, values) for row in value]):

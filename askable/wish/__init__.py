@@ -1,0 +1,1 @@
+"""Examples, papers of them, and the ladder of the languages."""
