@@ -1,9 +1,9 @@
 """Reads the files of the package and tells where they break a rule of LANGUAGE.md.
 
 Pieces of Python that LANGUAGE.md allows under long conditions, and that the package
-does without, are refused altogether: `try`, `with`, `match`, lambdas, nested
-functions, generator expressions, annotations, class values, slots, `super`, `map`.
-Whoever needs one of them adds its conditions here first.
+does without, are refused altogether: `match`, lambdas, nested functions, generator
+expressions, annotations, class values, slots, `super`, `map`, and a `try` that catches
+one of Python's own errors. Whoever needs one of them adds its conditions here first.
 """
 
 import ast
@@ -26,7 +26,7 @@ ALL_BUILTINS = {name for name in vars(builtins) if name != "_"}
 BUILTIN_METHODS = set(
     "append clear copy count endswith extend find get index insert isalnum isalpha isdigit islower isspace isupper items join"
     " keys ljust lower lstrip partition pop remove replace reverse rfind rjust rpartition rsplit rstrip setdefault split"
-    " splitlines startswith strip update upper values zfill bit_length".split()
+    " splitlines startswith strip update upper values zfill bit_length removeprefix".split()
 )
 SET_METHODS = {"add", "discard"}
 MODIFYING = set("append clear extend insert pop remove reverse setdefault update add discard sort".split())
@@ -37,13 +37,13 @@ BARRED_ATTRIBUTES = set(
 FREE_ATTRIBUTES = set("count index title find get join lower upper split strip copy add".split())
 OF_BUILTIN_VALUES = {name for kind in (str, int, list, dict, set, bytes, tuple) for name in dir(kind)}
 OPERATORS = set("__or__ __and__ __sub__ __contains__ __getitem__".split())
-METHODS = OPERATORS | set("__init__ __eq__ __repr__ __str__ __len__ __iter__ __call__".split())
+METHODS = OPERATORS | set("__init__ __eq__ __repr__ __str__ __len__ __iter__ __call__ __enter__ __exit__".split())
 PIECES = {getattr(ast, name) for name in (
     "Module FunctionDef ClassDef Return Delete Assign AugAssign For While If Raise Assert ImportFrom Expr Pass Break Continue"
     " BoolOp BinOp UnaryOp IfExp Dict Set ListComp SetComp DictComp Yield YieldFrom Compare Call FormattedValue JoinedStr"
     " Constant Attribute Subscript Starred Name List Tuple Slice Load Store Del And Or Add Sub Mult Mod Pow LShift RShift BitOr"
     " BitXor BitAnd FloorDiv Invert Not UAdd USub Eq NotEq Lt LtE Gt GtE Is IsNot In NotIn comprehension arguments arg keyword"
-    " alias"
+    " alias Try ExceptHandler With withitem"
 ).split()}
 NOWHERE = set("register mro elements open input law version_info with_traceback add_note super map next".split())
 NOT_BOUND = set(
@@ -168,6 +168,13 @@ def is_plain(piece):
     if isinstance(piece, ast.UnaryOp) and isinstance(piece.op, ast.USub):
         return isinstance(piece.operand, ast.Constant)
     return isinstance(piece, ast.Constant) or isinstance(piece, ast.Tuple) and all(map(is_plain, piece.elts))
+
+
+def is_table(piece, above):
+    """Whether a value at module level is a dict from values that are written out to such, or to functions above."""
+    if not isinstance(piece, ast.Dict) or not all(key is not None and is_plain(key) for key in piece.keys):
+        return False
+    return all(is_plain(value) or isinstance(value, ast.Name) and value.id in above for value in piece.values)
 
 
 def is_name_or_literal(piece):
@@ -305,14 +312,18 @@ def read_pieces(file):
 
 def read_module_level(file):
     is_top = True
+    above = set()
     for piece in file.tree.body:
+        if isinstance(piece, ast.FunctionDef):
+            above.add(piece.name)
         if isinstance(piece, ast.ImportFrom):
             if not is_top:
                 yield piece.lineno, "L2", "an import that does not stand at the top"
         elif not (isinstance(piece, ast.Expr) and piece.value in file.docstrings):
             is_top = False
             if isinstance(piece, ast.Assign):
-                if len(piece.targets) > 1 or not isinstance(piece.targets[0], ast.Name) or not is_plain(piece.value):
+                fits = is_plain(piece.value) or is_table(piece.value, above)
+                if len(piece.targets) > 1 or not isinstance(piece.targets[0], ast.Name) or not fits:
                     yield piece.lineno, "L3, L15", "no plain value under one name at module level"
             elif isinstance(piece, ast.Import):
                 yield piece.lineno, "L2", "an import of a whole module"
@@ -325,6 +336,22 @@ def read_module_level(file):
     for piece in file.pieces:
         if isinstance(piece, ast.ClassDef) and piece not in file.tree.body:
             yield piece.lineno, "L15", "a class that does not stand at module level"
+
+
+def read_tables(file):
+    """Dicts at module level are only read, and a function is taken from them by a name of its own."""
+    tables = {
+        piece.targets[0].id for piece in file.tree.body if isinstance(piece, ast.Assign) and isinstance(piece.value, ast.Dict)
+    }
+    for piece in file.pieces:
+        if isinstance(piece, ast.Call) and isinstance(piece.func, ast.Subscript):
+            yield piece.lineno, "L3", "a call of an item"
+        if isinstance(piece, ast.Name) and isinstance(piece.ctx, ast.Load) and piece.id in tables:
+            around = file.around[piece]
+            fits = isinstance(around, ast.Subscript) and around.value is piece and isinstance(around.ctx, ast.Load)
+            fits = fits or isinstance(around, ast.Attribute) and around.attr == "get" or isinstance(around, ast.Compare)
+            if not fits and called_name(around) not in ("len", "list", "dict", "sorted", "tuple"):
+                yield piece.lineno, "L15", f"the dict {piece.id} is not only read"
 
 
 def read_imports(package):
@@ -371,6 +398,8 @@ def read_functions(file, package):
             yield line, "L4", "a decorator"
         if arguments.posonlyargs or arguments.kw_defaults and not isinstance(home, (ast.Module, ast.ClassDef)):
             yield line, "L4", "a parameter that is passed by position only"
+        if arguments.kwonlyargs and (function.name in BUILTIN_METHODS or function.name.startswith("__")):
+            yield line, "L4", "a parameter that is passed by keyword, of a method that has none"
         if not all(is_plain(value) for value in arguments.defaults + [part for part in arguments.kw_defaults if part]):
             yield line, "L4", "a default value that is not plain"
         if function.name.startswith("__") and function.name != "__init__":
@@ -464,8 +493,16 @@ def read_method(method, names, package, is_error):
         yield line, "L28", "__init__ returns"
     if name == "__iter__":
         rows = [part for part in method.body if not (isinstance(part, ast.Expr) and isinstance(part.value, ast.Constant))]
-        if len(rows) != 1 or not re.match(r"^return iter\(self(\.\w+)+\)$", ast.unparse(rows[0])):
-            yield line, "L5", "__iter__ is not one statement over an attribute"
+        if len(rows) != 1 or not re.match(r"^return iter\(self(\.\w+)+\)$|^raise TypeError\('[^']*'\)$", ast.unparse(rows[0])):
+            yield line, "L5", "__iter__ is not one statement over an attribute, or one that raises an error"
+    if name in ("__enter__", "__exit__") and is_error:
+        yield line, "L6", "an error class with a block"
+    if name == "__enter__" and parameters != ["self"] or name == "__exit__" and len(parameters) != 4:
+        yield line, "L6", f"other parameters of {name}"
+    if name == "__exit__":
+        yield from read_exit(method)
+    if name == "__eq__" and any(isinstance(part, (ast.Assign, ast.AugAssign)) for part in ast.walk(method)):
+        yield line, "L28", "__eq__ assigns something"
     if name in ("__len__", "__str__", "__repr__") and not isinstance(last, ast.Return):
         yield line, "L28", f"{name} does not end with a return"
     for part in returns:
@@ -474,6 +511,38 @@ def read_method(method, names, package, is_error):
         if name in ("__str__", "__repr__") and not isinstance(part.value, (ast.JoinedStr, ast.Constant)):
             if called_name(part.value) not in ("str", "repr"):
                 yield line, "L28", f"{name} returns no string as it must be written"
+
+
+def is_simple(piece):
+    """Whether a piece is an attribute off attributes off a name, or a value that is written out."""
+    if isinstance(piece, ast.Attribute):
+        return isinstance(piece.value, ast.Name) or is_simple(piece.value)
+    return isinstance(piece, ast.Constant)
+
+
+def read_exit(method):
+    """The rows of __exit__ put attributes into attributes of its own object, and read nothing that it is passed."""
+    for row in method.body:
+        fits = isinstance(row, ast.Assign) and len(row.targets) == 1 and is_simple(row.value)
+        if not fits or not isinstance(row.targets[0], ast.Attribute) or ast.unparse(row.targets[0].value) != "self":
+            yield row.lineno, "L6", "a row of __exit__ that does something else"
+
+
+def read_blocks(file, package):
+    """What stands around `try` and `with`."""
+    own = package.errors - ERROR_CLASSES
+    for piece in file.pieces:
+        if isinstance(piece, ast.Try):
+            names = [handler.type.id if isinstance(handler.type, ast.Name) else None for handler in piece.handlers]
+            if piece.finalbody or not names or not set(names) <= own or any(handler.name for handler in piece.handlers):
+                yield piece.lineno, "L19", "a try that does not catch errors of the package alone"
+        if isinstance(piece, ast.With):
+            for item in piece.items:
+                fits = isinstance(item.context_expr, (ast.Call, ast.Name, ast.Attribute))
+                if not fits or not isinstance(item.optional_vars, (ast.Name, type(None))):
+                    yield piece.lineno, "L6", "a with over something else than a call, a name or an attribute"
+        if isinstance(piece, (ast.Yield, ast.YieldFrom)) and file.within(piece, (ast.Try, ast.With)):
+            yield piece.lineno, "L23", "a yield under a try or a with"
 
 
 def changes_of(function):
@@ -529,6 +598,7 @@ def read_class_names(file, package):
             fits = fits or isinstance(around, ast.Call) and called_name(around) == "isinstance" and around.args[0] is not piece
             fits = fits or isinstance(around, ast.Tuple) and called_name(file.around[around]) == "isinstance"
             fits = fits or isinstance(around, ast.Attribute) and isinstance(file.around[around], ast.Call)
+            fits = fits or isinstance(around, ast.ExceptHandler)
             if not fits:
                 yield piece.lineno, "L18", f"the class {piece.id} is neither called nor asked for"
         if isinstance(piece, ast.Attribute) and isinstance(piece.ctx, ast.Store):
@@ -559,6 +629,8 @@ def read_calls(file, package):
             right = {"int", "str", "bool", "list", "tuple", "dict"} | set(package.classes)
             if not all(isinstance(kind, ast.Name) and kind.id in right for kind in kinds):
                 yield line, "L22", "isinstance of another kind"
+        if name == "reversed" and called_name(piece.args[0]) not in ("list", "tuple", "sorted", "range"):
+            yield line, "L5", "reversed of something else than a list that is made there"
         if name == "iter" and file.within(piece, ast.FunctionDef).name != "__iter__":
             yield line, "L8", "iter outside of __iter__"
         if method is not None:
@@ -581,9 +653,9 @@ def read_calls(file, package):
         if isinstance(piece, ast.Name) and isinstance(piece.ctx, ast.Load) and piece.id in names:
             around = file.around[piece]
             is_local = piece.id in {told for told, _ in local_names(file.within(piece, ast.FunctionDef) or file.tree)}
-            if not is_local and not isinstance(around, ast.FunctionDef) and not (
-                isinstance(around, ast.Call) and around.func is piece
-            ):
+            is_called = isinstance(around, ast.Call) and around.func is piece
+            is_told = isinstance(around, ast.Dict) and file.within(piece, ast.FunctionDef) is None
+            if not is_local and not isinstance(around, ast.FunctionDef) and not is_called and not is_told:
                 yield piece.lineno, "L22", f"the function {piece.id} is not called"
 
 
@@ -725,9 +797,9 @@ def problems(texts):
     found = list(read_paths(package)) + list(read_imports(package)) + list(read_operators(package))
     for file in package.files:
         told = []
-        for read in (read_lines, read_tokens, read_pieces, read_module_level, read_sets):
+        for read in (read_lines, read_tokens, read_pieces, read_module_level, read_tables, read_sets):
             told += list(read(file))
-        for read in (read_functions, read_classes, read_class_names, read_calls, read_iteration):
+        for read in (read_functions, read_classes, read_blocks, read_class_names, read_calls, read_iteration):
             told += list(read(file, package))
         found += [(file.path,) + one for one in told]
     return sorted({f"{rule}: {path}, line {line}: {why}" for path, line, rule, why in found})

@@ -7,8 +7,10 @@ from askable.ask.answers import ways
 from askable.ask.rules import Query, Rule
 from askable.base.databases import Database
 from askable.base.tables import Table
+from askable.desk.desk import Desk
 from askable.errors import InvalidNumber
 from askable.keep.maps import maps
+from askable.text.shell import Shell
 from askable.wish.examples import Examples
 
 PATH = Database(("a", "b", "c"), edge=Table(2, ("a", "b"), ("b", "a"), ("b", "c"), ("c", "b")))
@@ -36,6 +38,8 @@ NUMBERS = [0, 1, 2, 3, 4, -1, -4, 16, 10 ** 40 - 1, 1 - 10 ** 40]
 STRINGS = [
     "", "a", "b", "z", "abcdefgh", "abcdefghi", "A", "aB", "a1", "1", "_", "a_", " ", "a b", " a", "a ", "a\n", "\n",
     "a" * 10000, "~" * 10000, "in", "out", "unlike", "fine", "comes", "deep one not", "deep many not ", "{x}", "values",
+    "()", "(a)", "1: (a)", "2: -", "values a b", "values a b\nat 2: (a,a)", "(x) if edge(x,y)", "1\n(x) if edge(x,y)", "0", "names",
+    "drop one", "put one\nvalues a", "ask far flat one plain", "undo 1", "wish far 01",
 ]
 TUPLES = [
     (), ("a",), ("a", "a"), ("b", "a"), ("a", "b"), ("a", "b", "c"), ("a", "b", "c", "d"), ("a", "b", "c", "d", "e", "f"),
@@ -45,6 +49,9 @@ TUPLES = [
     ("broken", ("in", "edge", ("x",))), ("choose", "x", (("fine",),)), (0, {}), (0, {"x": "a"}),
     nested(lambda one: (one,), 40, ()), nested(lambda one: ("choose", "x", (one,)), 19, 1), ({},), (POINT,),
     (0, ("a",)), ((0, ("a",)),), ((True, ("a",)),), ((0, ("a",)), (0, ("c",))), ((0, ("a", "b")),), ("keeper", (), 0, {}), TURN,
+    ("map", {"a": "a", "b": "b", "c": "c"}), ("map", {"a": "b"}), ("map", {}), ("parted", TIP, {}, ("fine",)), ("map",),
+    ("put", "one", POINT), ("drop", "one"), ("wish", "far", 1), ("must", "far", "one", ("a",)), ("put", "one"), (PATH,),
+    (PATH, POINT), (THERE, BACK), (Table(1, ("a",)),), (Table(1), Table(1)), (Table(0), Table(1)),
     ("keeper", ((0, ("a",)),), 0, {}), ("query", NOWHERE, (), ()), ("keeper",), ((("a", "c"),),), (PATH, (("a",),), None),
     (PATH, (("a",),), (("b",),)), (PATH, (), ()), ((),), ((), ()),
 ]
@@ -61,6 +68,7 @@ OBJECTS = [
     Table(0), Table(0, ()), Table(1, ("a",)), Table(2, ("a", "b")), PATH, POINT, THERE, Database(("a",)), TIP, Rule(()),
     Rule(("x",)), Query(0), Query(1, TIP), Query(0, Rule(())), ways(TIP, PATH, ("a",)), InvalidNumber(3), NOWHERE,
     ENDS, REST, BEGIN, Examples(0, (POINT, ((),), ())), maps(POINT, POINT, "deep one plain"), maps(1, 2, 3),
+    Desk({}), Desk({"to": 2}), Shell(Desk({})), Desk({"at": 2}).news(), Shell(Desk({})).run_all(()),
 ]
 EVERY_KIND = NUMBERS + [True, False, None] + STRINGS + TUPLES + LISTS + DICTS + OBJECTS
 

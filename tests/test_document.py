@@ -5,7 +5,12 @@ import unittest
 
 from askable.ask import answers, languages, rules, trees
 from askable.base import databases, tables
+from askable.desk import desk
+from askable.give import giving
 from askable.keep import flat, keepers, maps, places
+from askable.short import lean
+from askable.tell import least, order
+from askable.text import formats, shell
 from askable.wish import examples, ladder, papers
 
 VALUES = '''
@@ -98,6 +103,45 @@ STAGE_11 = '''
 >>> [clashes(REST, "flat one unlike"), clashes(REST, "deep one unlike"), carried(ENDS, "deep many plain", turn, "flat one plain")]
 [((0, ('a', 'a'), (2,)),), ((0, ('a', 'a'), (0, 1, 2)),), ('keeper', ((0, ('a',)), (0, ('c',))), 0, {('a', 'c'): 'b'})]
 '''
+STAGE_12 = '''
+>>> alone, ahead = (Table(1, ("a",)),), (Table(1, ("a",)), Table(1))
+>>> [least_tables((PATH,), alone, "deep many unlike")[0].rows, len(least_tables((PATH,), alone, "deep one plain")[0]), greatest_tables((PATH,), alone, "deep many unlike")[0].rows]
+[(('a',), ('c',)), 3, ()]
+>>> [can_have((THERE, BACK), ahead, "deep one not"), least_tables((THERE, BACK), ahead, "deep many unlike")[1].rows, exact_wish((PATH,), alone).cases[0][2]]
+[True, (('a',), ('b',)), (('b',), ('c',))]
+'''
+STAGE_13 = '''
+>>> [classes(PATH, 1, "deep many unlike"), number_of_tables(PATH, 1, "deep many unlike"), number_of_tables(PATH, 1, "deep many plain")]
+[((('a',), ('c',)), (('b',),)), 4, 2]
+>>> [class_order(POINT, 1, "flat many plain"), [len(table) for table in tables_asked(POINT, 1, "flat many plain")], is_order_paper(POINT, ("b",), ("a",), "flat one plain", ("map", {"b": "a"}))]
+[((1, 0),), [0, 1, 2], True]
+'''
+STAGE_14 = '''
+>>> extra = TIP.with_atom(("in", "edge", ("y", "x")))
+>>> [is_lean(ENDS, Query(1, TIP)), needed_atoms(ENDS, Query(1, extra)), [len(rule) for rule in lean(ENDS, Query(1, extra))]]
+[True, ((0, ('in', 'edge', ('y', 'z'))), (0, ('unlike', 'x', 'z'))), [3]]
+>>> [needed_rules(REST, nowhere | Query(2, Rule(("x", "x"), ("out", "at", ("x", "x"))))), shortest(REST, nowhere) == nowhere]
+[(1,), True]
+'''
+STAGE_15 = '''
+>>> PAIR = POINT.with_table("mark", Table(1, ("a",)))
+>>> [bases(PAIR, "flat many plain"), spare(PAIR, "flat one not"), bases(PAIR, "flat one not"), tables_given(PAIR, ("mark",), "flat many not")]
+[(('at',), ('mark',)), ('mark',), (('at',),), ('at', 'mark')]
+>>> [least_harmful(PAIR, Table(1, ("b",)), "flat many not"), greatest_harmless(PAIR, Table(1, ("b",)), "flat many not"), greatest_harmless(PAIR, Table(1, ("b",)), "flat one plain")]
+[(('at',), ('mark',)), ((),), (('at', 'mark'),)]
+'''
+STAGE_16 = r'''
+>>> desk = Desk({"to": 2})
+>>> [desk.apply(("put", "one", THERE), ("wish", "begin", 1), ("must", "begin", "one", ("a",)), ("bar", "begin", "one", ("b",))), desk.watch("begin", "flat one not"), desk.ladder("begin")["flat one not"]]
+[1, False, False]
+>>> [desk.watch("begin", "deep one unlike"), desk.apply(("put", "two", BACK), ("bar", "begin", "two", ("a",))), list(desk.news()), desk.undo(), str(desk)]
+[True, 2, [(('begin', 'deep one unlike'), True, False)], 1, 'desk of 1 databases, 1 wishes']
+>>> [format_rule(TIP), format_database(POINT), parse_query("0\n()") == Query(0, Rule(())), parse_table("1: -") == Table(1)]
+['(x) if edge(x,y), edge(y,z), x!=z', 'values a b\nat 2: (a,a)', True, True]
+>>> shell = Shell(Desk({"at": 2}))
+>>> list(shell.run_all(("put one\n" + format_database(POINT), "wish far 2", "must far one (a,b)", "bar far one (a,a)", "show one", "ask far flat one plain")))[3:]
+['ok', 'values a b\nat 2: (a,a)', 'never']
+'''
 
 
 class DocumentTest(unittest.TestCase):
@@ -105,14 +149,15 @@ class DocumentTest(unittest.TestCase):
         names = {}
         for module in (
             tables, databases, languages, rules, answers, trees, maps, examples, places, keepers, flat, papers, ladder,
+            least, order, lean, giving, desk, formats, shell,
         ):
             names.update(vars(module))
         text = VALUES + STAGE_1 + STAGE_2 + STAGE_3 + STAGE_4 + STAGE_5 + STAGE_6 + STAGE_7 + STAGE_8 + STAGE_9 + STAGE_10
-        text = text + STAGE_11
+        text = text + STAGE_11 + STAGE_12 + STAGE_13 + STAGE_14 + STAGE_15 + STAGE_16
         told = doctest.DocTestParser().get_doctest(text, names, "the document", None, 0)
         printed = []
         result = doctest.DocTestRunner().run(told, out=printed.append)
-        self.assertEqual((result.failed, result.attempted), (0, 41), "".join(printed))
+        self.assertEqual((result.failed, result.attempted), (0, 58), "".join(printed))
 
 
 if __name__ == "__main__":

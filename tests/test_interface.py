@@ -60,8 +60,33 @@ FUNCTIONS = {
         "ladder": "examples", "least_languages": "examples", "ladder_papers": "examples", "is_ladder": "examples, value",
         "carried": "examples, language, value, other", "clashes": "examples, language",
     },
+    "askable.tell.least": {
+        "exact_wish": "databases, tables", "can_have": "databases, tables, language",
+        "least_tables": "databases, tables, language", "least_query": "databases, tables, language",
+        "greatest_tables": "databases, tables, language",
+    },
+    "askable.tell.order": {
+        "leads_to": "database, row, other, language", "order_paper": "database, row, other, language",
+        "is_order_paper": "database, row, other, language, value", "classes": "database, columns, language",
+        "class_order": "database, columns, language", "number_of_tables": "database, columns, language",
+        "tables_asked": "database, columns, language",
+    },
+    "askable.short.lean": {
+        "is_lean": "examples, query", "lean": "examples, query", "needed_atoms": "examples, query",
+        "needed_rules": "examples, query", "shortest": "examples, query",
+    },
+    "askable.give.giving": {
+        "is_given": "database, names, name, language", "tables_given": "database, names, language",
+        "spare": "database, language", "bases": "database, language", "is_harmful": "database, names, secret, language",
+        "least_harmful": "database, secret, language", "greatest_harmless": "database, secret, language",
+    },
+    "askable.text.formats": {
+        "format_table": "table", "format_database": "database", "format_rule": "rule", "format_query": "query",
+        "parse_table": "text", "parse_database": "text", "parse_rule": "text", "parse_query": "text",
+    },
 }
-GENERATORS = {"ways", "maps", "symmetries", "key_rows", "kept_maps"}
+GENERATORS = {"ways", "maps", "symmetries", "key_rows", "kept_maps", "tables_asked"}
+GENERATOR_METHODS = {"news", "run_all"}
 METHODS = {
     ("askable.base.tables", "Table"): {
         "__init__": "self, columns, *rows", "of": "cls, columns, rows", "columns": "self", "rows": "self", "domain": "self",
@@ -91,6 +116,17 @@ METHODS = {
         "places": "self", "with_must": "self, index, row", "with_barred": "self, index, row", "without_must": "self, index, row",
         "without_barred": "self, index, row", "turned": "self", "only": "self, *indices", "__or__": "self, other",
         "__call__": "self, query", "__len__": "self", "__iter__": "self", "__eq__": "self, other", "__str__": "self",
+    },
+    ("askable.desk.desk", "Desk"): {
+        "__init__": "self, shape", "apply": "self, *edits", "apply_all": "self, edits", "undo": "self, *, many=1",
+        "redo": "self, *, many=1", "shape": "self", "names": "self", "wishes": "self", "log": "self", "watched": "self",
+        "__getitem__": "self, name", "examples": "self, wish", "ladder": "self, wish", "paper": "self, wish, language",
+        "watch": "self, wish, language", "unwatch": "self, wish, language", "news": "self", "trial": "self",
+        "during": "self, call", "twin": "self", "__len__": "self", "__contains__": "self, value", "__eq__": "self, other",
+        "__str__": "self",
+    },
+    ("askable.text.shell", "Shell"): {
+        "__init__": "self, desk", "run": "self, line", "run_all": "self, lines", "desk": "self", "log": "self", "__len__": "self",
     },
 }
 
@@ -131,6 +167,11 @@ class InterfaceTest(unittest.TestCase):
             for name in functions:
                 told = inspect.isgeneratorfunction(getattr(importlib.import_module(module), name))
                 self.assertEqual(told, name in GENERATORS)
+        for (module, name), methods in METHODS.items():
+            made = getattr(importlib.import_module(module), name)
+            for method in methods:
+                told = inspect.isgeneratorfunction(getattr(made, method))
+                self.assertEqual(told, method in GENERATOR_METHODS)
 
 
 if __name__ == "__main__":

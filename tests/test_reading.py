@@ -74,6 +74,27 @@ class Box:
     def __str__(self):
         return f"box of {len(self._rows)} rows"
 
+    def __enter__(self):
+        self._kept = self._size
+        return self
+
+    def __exit__(self, kind, value, trace):
+        self._size = self._kept
+
+
+class Still:
+    """Boxes under numbers."""
+
+    def __getitem__(self, at):
+        return at
+
+    def __iter__(self):
+        raise TypeError("not iterated over")
+
+    def put(self, at, *, by=1):
+        with Box(at) as one:
+            return one.with_row(by)
+
 
 def many(box):
     seen = set()
@@ -85,6 +106,17 @@ def many(box):
     told = [step for step in steps(LIMIT)]
     words = {word: True for word in WORDS if len(set(word) & {"a"}) == 0}
     return found, told, words, max([1, 2], default=0), {**words, "b": 2}
+
+
+TABLE = {"many": many, "few": (1, 2)}
+
+
+def done(word, box):
+    action = TABLE[word]
+    try:
+        return action(box)
+    except Wrong:
+        return list(reversed(list(box)))
 '''
 TWO = '''"""Steps."""
 
@@ -108,7 +140,9 @@ BROKEN_ROWS = [
     ("L2", "import os"), ("L2", "from os import path"), ("L2", "from .two import check"), ("L2", "from askable.two import *"),
     ("L2", "from askable.three import three"), ("L16", "from askable.two import check as other"),
     ("L16", "from askable.two import nothing"), ("L2", "from itertools import product"), ("L6", "import askable.two"),
-    ("L3", "ROWS = []"), ("L3", "ROWS = {}"), ("L3", "ONE, TWO = 1, 2"), ("L3", "many(1)"), ("L3", "for row in WORDS:\n    pass"),
+    ("L3", "ROWS = []"), ("L3", "ROWS = {\"a\": []}"), ("L3", "ROWS = {\"a\": later}\n\n\ndef later():\n    return 1"),
+    ("L3", "def one(x):\n    return TABLE[x](x)"), ("L15", "def one():\n    return TABLE"), ("L15", "def one():\n    TABLE[1] = 2"),
+    ("L15", "def one():\n    TABLE.clear()"), ("L15", "def one():\n    return many(TABLE)"), ("L3", "ONE, TWO = 1, 2"), ("L3", "many(1)"), ("L3", "for row in WORDS:\n    pass"),
     ("L3", "if LIMIT:\n    pass"), ("L15", "LIMIT = 4"), ("L15", "def many(box):\n    return box"), ("L3", "HALF = LIMIT // 2"),
     ("L4", "@check\ndef one():\n    pass"), ("L4", "def one():\n    def two():\n        pass\n    return two()"),
     ("L4", "def one(x=[]):\n    return x"), ("L4", "def one(x, /):\n    return x"), ("L6", "def one():\n    return lambda x: x"),
@@ -132,8 +166,23 @@ BROKEN_ROWS = [
     ("L23", "def one(xs):\n    return [x for x in steps(len(xs))]"), ("L23", "def one(xs):\n    return list(steps(limit=1))"),
     ("L5", "class One:\n    def __init__(self):\n        self.rows = 1"),
     ("L5", "def one(box):\n    return box.__len__()"), ("L5", "class One:\n    __slots__ = ()"),
-    ("L6", "def one():\n    global LIMIT"), ("L6", "async def one():\n    pass"), ("L6", "def one(x):\n    with x:\n        pass"),
-    ("L6", "def one(x):\n    try:\n        return x\n    except KeyError:\n        return 1"), ("L6", "def one(x):\n    x\n"),
+    ("L6", "def one():\n    global LIMIT"), ("L6", "async def one():\n    pass"), ("L6", "def one(x):\n    with x[0]:\n        pass"),
+    ("L6", "def one(x):\n    with x as x[0]:\n        pass"),
+    ("L19", "def one(x):\n    try:\n        return x\n    except KeyError:\n        return 1"),
+    ("L19", "def one(x):\n    try:\n        return x\n    except (Wrong, Odd):\n        return 1"),
+    ("L19", "def one(x):\n    try:\n        return x\n    except Wrong as e:\n        return 1"),
+    ("L19", "def one(x):\n    try:\n        return x\n    finally:\n        check(x)"),
+    ("L19", "def one(x):\n    try:\n        return x\n    except:\n        return 1"),
+    ("L23", "def one(x):\n    with x:\n        yield 1"), ("L23", "def one(x):\n    try:\n        yield 1\n    except Wrong:\n        pass"),
+    ("L6", "class One:\n    def __exit__(self, kind, value, trace):\n        self.many()\n\n    def many(self):\n        pass"),
+    ("L6", "class One:\n    def __exit__(self, kind, value, trace):\n        self.size = len(self.told)"),
+    ("L6", "class One:\n    def __exit__(self, kind, value, trace):\n        self.told.size = self.told"),
+    ("L6", "class One:\n    def __exit__(self):\n        pass"), ("L6", "class One:\n    def __enter__(self, by):\n        pass"),
+    ("L6", "class One(ValueError):\n    def __enter__(self):\n        return self"),
+    ("L5", "class One:\n    def __iter__(self):\n        raise Wrong(\"a\")"), ("L5", "def one(xs):\n    return list(reversed(xs))"),
+    ("L28", "class One:\n    def __eq__(self, other):\n        a = other\n        return a == 1"),
+    ("L4", "class One:\n    def append(self, *, by):\n        return by"),
+    ("L6", "def one(x):\n    x\n"),
     ("L6", "def one(x):\n    match x:\n        case 1:\n            return 2"), ("L6", "def one(x):\n    assert (x, 1)"),
     ("L7", "def one():\n    return 1.5"), ("L7", "def one(x):\n    return x / 2"), ("L7", "def one(xs):\n    return any(x for x in xs)"),
     ("L7", "def one():\n    return b'a'"), ("L7", "WORD = [1 for _ in (1, 2)]"), ("L7", "def one(x):\n    return x @ x"),

@@ -212,3 +212,11 @@ def _choices(tree):
     trees = _trees_below(tree)
     below = [variable for at in _different(trees) for variable in _choices(trees[at])]
     return sorted(set(list(tree[1:2]) + below)) if trees else []
+
+
+def atoms_in(tree):
+    """The ascending list of the atoms that are broken in a tree."""
+    if tree[0] == "broken":
+        return [tree[1]]
+    trees = _trees_below(tree)
+    return sorted({atom for at in _different(trees) for atom in atoms_in(trees[at])})

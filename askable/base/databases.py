@@ -1,8 +1,8 @@
 """Databases: some values, and tables of them under names."""
 
 from askable.base.checks import is_row
-from askable.base.tables import MAX_VALUES, Table, are_values, is_name, is_renaming, whole_table
-from askable.errors import InvalidDatabase, InvalidName, InvalidOperation, InvalidTable, UnknownName
+from askable.base.tables import MAX_VALUES, Table, are_values, check_table, is_name, is_renaming, whole_table
+from askable.errors import InvalidDatabase, InvalidName, InvalidOperation, UnknownName
 
 MAX_TABLES = 4
 
@@ -81,8 +81,7 @@ class Database:
         """The database with one more table, or with another one under this name."""
         if not is_name(name):
             raise InvalidName("the name of a table is not a name")
-        if not isinstance(table, Table):
-            raise InvalidTable("not a table")
+        check_table(table)
         return Database.of(self._domain, {**self._tables, name: table})
 
     def without_table(self, name):

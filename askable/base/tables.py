@@ -40,6 +40,12 @@ def check_columns(columns):
         raise InvalidNumber(columns)
 
 
+def check_table(table):
+    """Raise an error if the table is none."""
+    if not isinstance(table, Table):
+        raise InvalidTable("not a table")
+
+
 def whole_table(values, columns):
     """The table of all rows over the values, with so many columns."""
     if not are_values(values):

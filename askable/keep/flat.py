@@ -6,10 +6,11 @@ from askable.ask.rules import Query
 from askable.ask.truth import Signs
 from askable.base.checks import rows_of
 from askable.base.databases import check_database
+from askable.base.lots import greatest_lots, lots_of, shorter_lots
 from askable.base.tables import check_columns
 from askable.errors import InvalidOperation, NoQuery, TooMany
 from askable.keep.keepers import keeper
-from askable.keep.keys import KeyRows, PlaceMaps, is_deep, is_single
+from askable.keep.keys import KeyRows, PlaceMaps, check_several, is_deep
 from askable.keep.maps import check_alike, check_rows_of_two, check_short_row
 from askable.keep.places import rule_at
 from askable.wish.examples import Examples, check_examples
@@ -65,25 +66,14 @@ def check_few_places(examples):
         raise TooMany(MAX_PLACES)
 
 
-def lots_of(many):
-    """The list of all ascending tuples of some of so many indices, shorter ones first."""
-    told = [tuple([at for at, chosen in enumerate(row) if chosen]) for row in rows_of([(False, True)] * many)]
-    return [lot for size in range(many + 1) for lot in told if len(lot) == size]
-
-
-def parts_of(lot):
-    """The list of the tuples that lack one of some indices."""
-    return [lot[:at] + lot[at + 1:] for at in range(len(lot))]
-
-
 def _joint_lots(examples, language):
     """The list of the tuples of joint places, told by their indices, shorter ones first."""
     places = examples.places
     rows = KeyRows(examples, language)
     joint = {}
-    for lot in lots_of(len(places))[1:]:
+    for lot in lots_of(tuple(range(len(places))))[1:]:
         # Some of joint places are joint, too, so only what is put together from such can be.
-        if len(lot) == 1 or all([part in joint for part in parts_of(lot)]):
+        if len(lot) == 1 or all([part in joint for part in shorter_lots(lot)]):
             if PlaceMaps(rows, tuple([places[at] for at in lot])).any_keeper() is None:
                 joint[lot] = True
     return list(joint)
@@ -94,17 +84,14 @@ def joint_sets(examples, language):
     check_examples(examples)
     _check_flat(language)
     check_few_places(examples)
-    lots = _joint_lots(examples, language)
-    within = {part: True for lot in lots for part in parts_of(lot)}
-    return tuple(sorted([lot for lot in lots if lot not in within]))
+    return greatest_lots(_joint_lots(examples, language))
 
 
 def fewest_rules(examples, language):
     """A query of the language with the fewest rules that fits."""
     check_examples(examples)
     _check_flat(language)
-    if is_single(language):
-        raise InvalidOperation("a language in which each query has one rule")
+    check_several(language)
     told = keeper(examples, language)
     if told is not None:
         raise NoQuery(told)

@@ -6,7 +6,7 @@ from askable.ask.rules import atom_over
 from askable.ask.search import Search, head_first
 from askable.ask.truth import Signs
 from askable.base.checks import is_below, rows_of
-from askable.errors import TooMany
+from askable.errors import InvalidOperation, TooMany
 
 
 def _is_place(examples, value):
@@ -50,6 +50,12 @@ def is_single(language):
     return language.split(" ")[1] == "one"
 
 
+def check_several(language):
+    """Raise an error if each query of the language has one rule."""
+    if is_single(language):
+        raise InvalidOperation("a language in which each query has one rule")
+
+
 def number_of_keys(examples, language, places):
     """The number of the keys of a map from places."""
     if not is_deep(language):
@@ -83,7 +89,7 @@ class KeyRows:
     """The signs of a language in all cases of examples, made ready for the key rows over any places."""
 
     def __init__(self, examples, language):
-        self.examples = examples
+        self.known_examples = examples
         self.word = language
         self.signs = signs_of(examples.cases[0][0], language)
         self.by_case = [Signs(database) for database, _, _ in examples]
@@ -108,7 +114,7 @@ class KeyRows:
         """The ascending list of the key rows of a sign over the keys of a map from places."""
         if is_deep(self.word):
             return sorted(self._put_together(places, sign))
-        keys = list_of_keys(self.examples, self.word, places)
+        keys = list_of_keys(self.known_examples, self.word, places)
         return [told for told in rows_of([keys] * self.width(sign)) if self.has(places, sign, told)]
 
     def _put_together(self, places, sign):
@@ -130,8 +136,8 @@ class PlaceMaps:
     def __init__(self, rows, places):
         self._rows = rows
         self._from = places
-        self.thrown_keys = columns_at(rows.examples, places)
-        self.all_keys = list_of_keys(rows.examples, rows.word, places)
+        self.thrown_keys = columns_at(rows.known_examples, places)
+        self.all_keys = list_of_keys(rows.known_examples, rows.word, places)
         self._known_atoms = rows.atoms_over(places)
 
     def search(self, head, target):
@@ -154,7 +160,7 @@ class PlaceMaps:
 
     def any_keeper(self):
         """A keeper that throws the places to a barred row, or None."""
-        for target, (_, _, barred) in enumerate(self._rows.examples):
+        for target, (_, _, barred) in enumerate(self._rows.known_examples):
             told = self.keeper_to(target, barred) if barred else None
             if told is not None:
                 return told

@@ -82,7 +82,7 @@ def rule_at(rows, places):
     The variables are called by the order in which their keys stand in the head, and then by that of the keys:
     so places that differ in their values alone can have equal rules.
     """
-    head = columns_at(rows.examples, places)
+    head = columns_at(rows.known_examples, places)
     atoms = rows.atoms_over(places)
     others = sorted({key for atom in atoms for key in variables_of(atom)} - set(head))
     order = list({key: True for key in head}) + others

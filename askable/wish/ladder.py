@@ -1,8 +1,9 @@
 """The ladder: which of the twelve languages can do what examples wish, and why others cannot."""
 
 from askable.ask.languages import LANGUAGES, check_language, is_within
+from askable.base.lots import lots_of, shorter_lots
 from askable.errors import InvalidOperation
-from askable.keep.flat import check_few_places, lots_of, parts_of
+from askable.keep.flat import check_few_places
 from askable.keep.keepers import check_keeper_bound
 from askable.keep.keys import KeyRows, PlaceMaps, is_deep, is_refused, is_single, list_of_keys
 from askable.wish.examples import check_examples
@@ -23,12 +24,25 @@ def _told_by(known, language):
     return None
 
 
+def _known(examples, refused):
+    """The dict from the languages that the bound does not refuse to whether a query of them fits."""
+    return {word: is_askable(examples, word) for word in LANGUAGES if word not in refused}
+
+
 def ladder(examples):
     """The dict from the twelve languages to whether a query of them fits, or None where the bound hides it."""
     check_examples(examples)
     refused = _refused(examples)
-    known = {word: is_askable(examples, word) for word in LANGUAGES if word not in refused}
+    known = _known(examples, refused)
     return {word: _told_by(known, word) if word in refused else known[word] for word in sorted(LANGUAGES)}
+
+
+def rung(examples, language):
+    """What the ladder of the examples tells of one language."""
+    refused = _refused(examples)
+    if language not in refused:
+        return is_askable(examples, language)
+    return _told_by(_known(examples, refused), language)
 
 
 def least_languages(examples):
@@ -115,17 +129,17 @@ def clashes(examples, language):
     check_few_places(examples)
     check_keeper_bound(examples, language)
     rows = KeyRows(examples, language)
-    many = len(examples.places)
-    lots = lots_of(many) if is_single(language) else [(at,) for at in range(many)]
+    indices = tuple(range(len(examples.places)))
+    lots = lots_of(indices) if is_single(language) else [(at,) for at in indices]
     thrown = {lot: _barred_thrown(rows, lot) for lot in lots}
     return tuple(sorted([(*told, lot) for lot in lots for told in thrown[lot] if _is_new(thrown, told, lot)]))
 
 
 def _barred_thrown(rows, lot):
     """The dict that has as keys the pairs (index of a case, barred row) to which maps from some places throw."""
-    told = PlaceMaps(rows, tuple([rows.examples.places[at] for at in lot]))
+    told = PlaceMaps(rows, tuple([rows.known_examples.places[at] for at in lot]))
     found = {}
-    for target, (_, _, barred) in enumerate(rows.examples):
+    for target, (_, _, barred) in enumerate(rows.known_examples):
         for row in told.thrown_among(target, barred):
             found[(target, row)] = True
     return found
@@ -133,4 +147,4 @@ def _barred_thrown(rows, lot):
 
 def _is_new(thrown, told, lot):
     """Whether no lot that lacks one of the places of a lot throws to a barred row."""
-    return not any([told in thrown[part] for part in parts_of(lot) if part in thrown])
+    return not any([told in thrown[part] for part in shorter_lots(lot) if part in thrown])

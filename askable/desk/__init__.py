@@ -1,0 +1,1 @@
+"""The desk, with its edits and its moments."""

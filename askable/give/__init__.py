@@ -1,0 +1,1 @@
+"""Tables that others give, and tables that tell a secret."""

@@ -1,0 +1,1 @@
+"""Shorter queries that still fit."""

@@ -1,0 +1,1 @@
+"""What languages can tell: least and greatest tables, and the order of rows."""

@@ -1,0 +1,1 @@
+"""Texts of values, and the shell of a desk."""
