@@ -213,6 +213,22 @@ class ShortestTest(unittest.TestCase):
             right = min(size_of_query(one) for one in all_that_come(query) if fits(examples, one))
             self.assertEqual(size_of_query(shortest(examples, query)), right)
 
+    def test_rules_count_like_atoms(self):
+        # One rule with four atoms does what two rules with one atom each do: five parts or four.
+        first, second, head = ("a", "a", "a"), ("b", "b", "b"), ("x", "y", "z")
+        pairs = [tuple(pair) for pair in ("aa", "bb", "cc", "ab", "bd", "ef", "af", "ac")]
+        database = Database(
+            tuple("abcdef"), a=Table(1, ("a",), ("b",), ("e",)), b=Table(2, *pairs), s=Table(3, first), t=Table(3, second),
+        )
+        barred = tuple(tuple(row) for row in ("ccc", "abd", "aef", "abc"))
+        examples = Examples(3, (database, (first, second), barred))
+        long = Rule(head, ("in", "a", ("x",)), *[("in", "b", pair) for pair in (("x", "y"), ("y", "z"), ("x", "z"))])
+        short = [Rule(head, ("in", "s", head)), Rule(head, ("in", "t", head))]
+        query = Query(3, long, *short)
+        self.assertEqual(len(needed_atoms(examples, Query(3, long))), 4)
+        self.assertEqual(shortest(examples, query), Query(3, *short))
+        self.assertEqual(shortest(examples, Query(3, long)), Query(3, long))
+
     def test_ten_rules_and_atoms(self):
         values = tuple("abcdef")
         names = "stuv"

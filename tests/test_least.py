@@ -54,6 +54,7 @@ def wrong_tables(databases):
     ]
     if many > 1:
         more += [(Table(1),) + (Table(2),) * (many - 1), (Table(0),) + (Table(1),) * (many - 1)]
+        more += [(Table(1, ("z",)),) + (Table(1),) * (many - 1), (Table(1),) * (many - 1) + (Table(1, ("a",), ("z",)),)]
     told = all_wrong(InvalidOperation, lambda value: are_right_tables(databases, value))
     return told + [(value, InvalidOperation) for value in more]
 
@@ -129,6 +130,9 @@ class ExactWishTest(unittest.TestCase):
         ):
             check_errors(self, call, [((PATH,), WRONG_DATABASES), (ALONE, wrong_tables((PATH,)))] + rest)
             check_errors(self, call, [((THERE, BACK), WRONG_DATABASES), (AHEAD, wrong_tables((THERE, BACK)))] + rest)
+            told = [right for right, _ in rest]
+            check_error(self, InvalidOperation, call, (), (), *told)
+            check_error(self, InvalidOperation, call, (POINT,) * 5, (Table(1),) * 5, *told)
             four = (POINT, POINT, POINT, POINT)
             check_errors(self, call, [(four, WRONG_DATABASES), ((Table(2),) * 4, wrong_tables(four))] + rest)
 

@@ -186,7 +186,8 @@ class CommandTest(unittest.TestCase):
             "wish near 1 1", "wish near -1", "wish Near 1", "wish 1 near", "drop", "drop One", "drop one one", "drop abcdefghi", "row one to",
             "row one to a", "row one to (a, b)", "row one to (a,b) ", "row one to (a,b", "row one to a,b)", "row one to (a,B)", "row one to ((a))",
             "row one to (a,)", "row one to (,)", "row one (a,b)", "row one to (a,b) (a,b)", "row one to ( )", "row one to ('a','b')",
-            "must far one", "must far one a", "must far one (a) (b)", "must far (a)", "open one (a)", "value one", "value one A", "value one (a)",
+            "must far one", "must far one a", "must far one (ab", "must far one ba)", "must far one bab", "must far one [a]",
+            "must far one )a(", "must far one (a) (b)", "must far (a)", "open one (a)", "value one", "value one A", "value one (a)",
             "value one c d", "unvalue one 1", "forget", "forget Far", "forget far far", "quit", "apply", "len", "watch far flat one plain",
         ]
         for line in wrong:

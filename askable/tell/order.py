@@ -47,12 +47,11 @@ def is_order_paper(database, row, other, language, value):
     """Whether the value is an order paper of two rows."""
     _check_rows(database, row, other, language)
     wish = _parting_wish(database, row, other)
-    told = _paper_by(wish, value)
-    return told is not None and is_paper(wish, language, told)
+    return is_paper(wish, language, _paper_by(wish, value))
 
 
 def _paper_by(wish, value):
-    """The paper of examples with one place that a value like an order paper tells, or None."""
+    """What a value like an order paper is as a paper of examples with one place, or None."""
     if not isinstance(value, tuple) or len(value) not in (2, 4):
         return None
     if len(value) == 2:

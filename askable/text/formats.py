@@ -71,47 +71,16 @@ def format_query(query):
     return _query_text(query)
 
 
-# What is read below is written again: so whatever stands in the text of a value otherwise than there is refused.
-
-
-def _check_same(text, other):
-    if text != other:
-        raise ParseError("not written as the text of this value")
-
-
-def _check_text(text):
-    if not isinstance(text, str):
-        raise ParseError("not a text")
-
-
 def _number_in(text):
     if text not in _DIGITS:
         raise ParseError("not a number of columns")
     return int(text)
 
 
-def _row_in(text):
-    row = row_of(text)
-    if row is None:
-        raise ParseError("not a row")
-    return row
-
-
 def _table_in(text):
     columns, _, rest = text.partition(": ")
     parts = [] if rest == "-" else rest.split(" ")
-    return Table.of(_number_in(columns), tuple([_row_in(part) for part in parts]))
-
-
-def parse_table(text):
-    """The table of which this is the text."""
-    _check_text(text)
-    try:
-        table = _table_in(text)
-    except AskError:
-        raise ParseError("not the text of a table")
-    _check_same(text, _table_text(table))
-    return table
+    return Table.of(_number_in(columns), tuple([row_of(part) for part in parts]))
 
 
 def _database_in(text):
@@ -123,41 +92,19 @@ def _database_in(text):
     return Database.of(tuple(lines[0].split(" ")[1:]), tables)
 
 
-def parse_database(text):
-    """The database of which this is the text."""
-    _check_text(text)
-    try:
-        database = _database_in(text)
-    except AskError:
-        raise ParseError("not the text of a database")
-    _check_same(text, _database_text(database))
-    return database
-
-
 def _atom_in(text):
     if "!=" in text:
         first, _, second = text.partition("!=")
         return "unlike", first, second
     word = "out" if text.startswith("not ") else "in"
     name, sign, rest = text.removeprefix("not ").partition("(")
-    return word, name, _row_in(sign + rest)
+    return word, name, row_of(sign + rest)
 
 
 def _rule_in(text):
     head, sign, rest = text.partition(" if ")
     parts = rest.split(", ") if sign else []
-    return Rule.of(_row_in(head), tuple([_atom_in(part) for part in parts]))
-
-
-def parse_rule(text):
-    """The rule of which this is the text."""
-    _check_text(text)
-    try:
-        rule = _rule_in(text)
-    except AskError:
-        raise ParseError("not the text of a rule")
-    _check_same(text, _rule_text(rule))
-    return rule
+    return Rule.of(row_of(head), tuple([_atom_in(part) for part in parts]))
 
 
 def _query_in(text):
@@ -165,12 +112,41 @@ def _query_in(text):
     return Query.of(_number_in(lines[0]), tuple([_rule_in(line) for line in lines[1:]]))
 
 
+_READERS = {"table": _table_in, "database": _database_in, "rule": _rule_in, "query": _query_in}
+_WRITERS = {"table": _table_text, "database": _database_text, "rule": _rule_text, "query": _query_text}
+
+
+def _value_of(text, kind):
+    """The value of some kind of which this is the text."""
+    if not isinstance(text, str):
+        raise ParseError("not a text")
+    read = _READERS[kind]
+    write = _WRITERS[kind]
+    try:
+        value = read(text)
+    except AskError:
+        raise ParseError("not the text of a value of this kind")
+    # The readers take more than the texts of values, such as rows in any order. Each value is written in one way alone.
+    if write(value) != text:
+        raise ParseError("not written as the text of this value")
+    return value
+
+
+def parse_table(text):
+    """The table of which this is the text."""
+    return _value_of(text, "table")
+
+
+def parse_database(text):
+    """The database of which this is the text."""
+    return _value_of(text, "database")
+
+
+def parse_rule(text):
+    """The rule of which this is the text."""
+    return _value_of(text, "rule")
+
+
 def parse_query(text):
     """The query of which this is the text."""
-    _check_text(text)
-    try:
-        query = _query_in(text)
-    except AskError:
-        raise ParseError("not the text of a query")
-    _check_same(text, _query_text(query))
-    return query
+    return _value_of(text, "query")

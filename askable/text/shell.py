@@ -19,7 +19,7 @@ _OTHERS = {
     "undo": ("number",), "redo": ("number",), "names": (), "wishes": (), "show": ("name",), "ladder": ("name",),
     "ask": ("name", "language"),
 }
-_MARKS = ((True, "yes"), (False, "no"), (None, "?"))
+_MARKS = {True: "yes", False: "no", None: "?"}
 
 
 def _number_of(word):
@@ -52,8 +52,7 @@ def _command_of(line):
     first, newline, text = line.partition("\n")
     words = _words_of(first)
     if words[0] == "put" and newline:
-        parts = (words[0], *_parts_of(words, ("name",)), text)
-        return parts
+        return (words[0], *_parts_of(words, ("name",)), text)
     kinds = _EDITS.get(words[0], _OTHERS.get(words[0]))
     if kinds is None or newline:
         raise InvalidCommand("not a command")
@@ -130,8 +129,7 @@ class Shell:
         return self._query_text(command[1], command[2])
 
     def _ladder_text(self, wish):
-        marks = dict(_MARKS)
-        return "\n".join([f"{language} {marks[told]}" for language, told in self._home.ladder(wish).items()])
+        return "\n".join([f"{language} {_MARKS[told]}" for language, told in self._home.ladder(wish).items()])
 
     def _query_text(self, wish, language):
         wished = self._home.examples(wish)
